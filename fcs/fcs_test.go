@@ -203,26 +203,30 @@ func TestTwoBytesAndNoOthers(t *testing.T) {
 	}
 }
 
-// turned is bytes of which 16 bits, from a place on, are turned where the bits of how are 1; of a byte the lowest bit stands first, as on a line.
-func turned(b []byte, place int, how uint16) []byte {
+// turned is bytes of which 16 bits, from a place on, are turned where the bits of how are 1; in each byte its lowest bit stands first, as on a line, or its highest one does, as it is written.
+func turned(b []byte, place int, how uint16, highest bool) []byte {
 	out := bytes.Clone(b)
-	for i := 0; i < 16; i++ {
-		if how>>i&1 == 1 {
-			out[(place+i)/8] ^= 1 << ((place + i) % 8)
+	for i := range 16 {
+		bit := (place + i) % 8
+		if highest {
+			bit = 7 - bit
 		}
+		out[(place+i)/8] ^= byte(how>>i&1) << bit
 	}
 	return out
 }
 
-// P1.3: all changes within 16 bits that stand together, at all places, are found.
+// P1.3: all changes within 16 bits that stand together, at all places, are found, whichever bit of a byte stands first.
 func TestChangedTogether(t *testing.T) {
 	for _, s := range []string{"", "A", "\x7E\x7D\x00"} {
-		put := fcs.Put([]byte(s))
-		for place := 0; place <= len(put)*8-16; place++ {
-			for how := 1; how <= 0xFFFF; how++ {
-				b := turned(put, place, uint16(how))
-				if got, e := fcs.Cut(b); fcs.Good(b) || got != nil || e != api.ErrSum {
-					t.Fatalf("%x for %x is good", b, put)
+		for _, highest := range []bool{false, true} {
+			put := fcs.Put([]byte(s))
+			for place := 0; place <= len(put)*8-16; place++ {
+				for how := 1; how <= 0xFFFF; how++ {
+					b := turned(put, place, uint16(how), highest)
+					if got, e := fcs.Cut(b); fcs.Good(b) || got != nil || e != api.ErrSum {
+						t.Fatalf("%x for %x is good", b, put)
+					}
 				}
 			}
 		}
