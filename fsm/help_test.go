@@ -32,7 +32,7 @@ func alike(a, b deed) bool {
 // does: is an action among what is done?
 func (d deed) does(action int) bool { return slices.Contains(d.actions, action) }
 
-// tableOfRfc is the table of RFC 1661 (4.1), in the RFC's own words: a row an event, from Up to RXR, with the states from Initial to Opened.
+// tableOfRfc is the table of RFC 1661 (4.1) once more, in the RFC's notation without its marks (p, r, x): a row an event, from Up to RXR, with the states from Initial to Opened.
 func tableOfRfc() []string {
 	return []string{
 		"2     irc,scr/6 -         -             -     -     -         -         -         -",
